@@ -1,0 +1,1 @@
+"""Pulltree: a tree of stations that pull the oldest boxes."""

@@ -1,0 +1,56 @@
+"""Checks of arguments, shared by the modules of the package."""
+
+from pulltree.errors import NoDays, NoPlant, NoStation, NoStock
+
+MOST_STATIONS = 40
+
+
+def is_integer(value):
+    """Tells whether a value is an integer; True and False are none."""
+    return isinstance(value, int) and not isinstance(value, bool)
+
+
+def is_within(value, least, most):
+    """Tells whether a value is an integer from least to most."""
+    return is_integer(value) and least <= value <= most
+
+
+def fits_plant(value):
+    """Tells whether a value is a plant."""
+    if not isinstance(value, tuple) or len(value) >= MOST_STATIONS:
+        return False
+    return all([is_within(above, 0, at) for at, above in enumerate(value)])
+
+
+def fits_stock(plant, value):
+    """Tells whether a value is a stock of a plant that is already checked."""
+    if not isinstance(value, tuple) or len(value) != len(plant) + 1:
+        return False
+    # Other kinds of values are ruled out first: a set takes no lists.
+    if not all([is_integer(box) for box in value]):
+        return False
+    return len(set(value)) == len(value)
+
+
+def check_plant(plant):
+    """Raises NoPlant unless the value is a plant."""
+    if not fits_plant(plant):
+        raise NoPlant("this is not a plant")
+
+
+def check_station(plant, station):
+    """Raises NoStation unless the value is a station of the plant."""
+    if not is_within(station, 0, len(plant)):
+        raise NoStation("this is not a station of the plant")
+
+
+def check_stock(plant, stock):
+    """Raises NoStock unless the value is a stock of the plant."""
+    if not fits_stock(plant, stock):
+        raise NoStock("this is not a stock of the plant")
+
+
+def check_days(days, least, most):
+    """Raises NoDays unless the value is an integer from least to most."""
+    if not is_within(days, least, most):
+        raise NoDays("this is not such a number of days")

@@ -1,0 +1,117 @@
+"""A plain model of plants and days, written without the package, and sample values."""
+
+import itertools
+import random
+
+
+def integer(value):
+    return isinstance(value, int) and value is not True and value is not False
+
+
+def plant_by_definition(value):
+    if not isinstance(value, tuple) or len(value) > 39:
+        return False
+    for index in range(len(value)):
+        if not integer(value[index]) or value[index] not in range(index + 1):
+            return False
+    return True
+
+
+def stock_by_definition(plant, value):
+    if not isinstance(value, tuple) or len(value) != len(plant) + 1:
+        return False
+    for index in range(len(value)):
+        if not integer(value[index]) or value[index] in value[:index]:
+            return False
+    return True
+
+
+def stations(plant):
+    return list(range(len(plant) + 1))
+
+
+def customer_of(plant, station):
+    return dict(enumerate(plant, start=1)).get(station)
+
+
+def suppliers_of(plant, station):
+    return [other for other in stations(plant) if customer_of(plant, other) == station]
+
+
+def stations_below(plant, station):
+    found = []
+    for other in suppliers_of(plant, station):
+        found += [other] + stations_below(plant, other)
+    return found
+
+
+def walk_to_shop(plant, station):
+    if station == 0:
+        return [0]
+    return [station] + walk_to_shop(plant, customer_of(plant, station))
+
+
+def simulate_day(plant, stock):
+    """Pulls the boxes up one by one: (sold, chain, later)."""
+    held = dict(zip(stations(plant), stock))
+    newest = sorted(stock)[-1]
+    chain = [0]
+    sold = held.pop(0)
+    while suppliers_of(plant, chain[-1]):
+        offers = {held[other]: other for other in suppliers_of(plant, chain[-1])}
+        box = sorted(offers)[0]
+        held[chain[-1]] = held.pop(offers[box])
+        chain.append(offers[box])
+    held[chain[-1]] = newest + 1
+    return sold, chain, tuple(held[station] for station in stations(plant))
+
+
+def simulate(plant, stock, days):
+    """The rows (sold, chain) of the days, and the stock after them."""
+    rows = []
+    for _ in range(days):
+        sold, chain, stock = simulate_day(plant, stock)
+        rows.append((sold, tuple(chain)))
+    return rows, stock
+
+
+def chain_plant(count):
+    return tuple(range(count - 1))
+
+
+def star_plant(count):
+    return (0,) * (count - 1)
+
+
+def any_plant(count, seed):
+    source = random.Random(seed)
+    return tuple(source.randint(0, index) for index in range(count - 1))
+
+
+def any_stock(plant, seed):
+    """A stock of scattered numbers, negative and very great ones among them."""
+    source = random.Random(seed)
+    reach = source.choice([30, 1000, 10 ** 12, 10 ** 40])
+    boxes = set()
+    while len(boxes) < len(plant) + 1:
+        boxes.add(source.randint(-reach, reach))
+    boxes = sorted(boxes)
+    source.shuffle(boxes)
+    return tuple(boxes)
+
+
+def all_plants(count):
+    return list(itertools.product(*[range(index + 1) for index in range(count - 1)]))
+
+
+def all_patterns(plant):
+    return list(itertools.permutations(range(len(plant) + 1)))
+
+
+def sample_plants():
+    """Chains, stars and other trees of 1 to 40 stations."""
+    plants = []
+    for count in range(1, 41):
+        plants += [chain_plant(count), star_plant(count)]
+        plants += [any_plant(count, 100 * count + turn) for turn in range(3)]
+    return plants
