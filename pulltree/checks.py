@@ -4,6 +4,8 @@ from pulltree.errors import NoDays, NoPlant, NoStation, NoStock
 
 MOST_STATIONS = 40
 
+FARTHEST_DAY = 10 ** 30
+
 
 def is_integer(value):
     """Tells whether a value is an integer; True and False are none."""
@@ -19,7 +21,19 @@ def fits_plant(value):
     """Tells whether a value is a plant."""
     if not isinstance(value, tuple) or len(value) >= MOST_STATIONS:
         return False
-    return all([is_within(above, 0, at) for at, above in enumerate(value)])
+    # Most functions of the package begin with this loop. It asks what is_within
+    # asks, but calls for each station would take most of the time.
+    greatest = 0
+    for above in value:
+        if not isinstance(above, int) or above is True or above is False or above < 0 or above > greatest:
+            return False
+        greatest += 1
+    return True
+
+
+def fits_station(plant, value):
+    """Tells whether a value is a station of a plant that is already checked."""
+    return is_integer(value) and 0 <= value <= len(plant)
 
 
 def fits_stock(plant, value):
@@ -40,8 +54,22 @@ def check_plant(plant):
 
 def check_station(plant, station):
     """Raises NoStation unless the value is a station of the plant."""
-    if not is_within(station, 0, len(plant)):
+    if not fits_station(plant, station):
         raise NoStation("this is not a station of the plant")
+
+
+def check_supplier(plant, station, supplier):
+    """Raises NoStation unless the value is a supplier of the checked station."""
+    check_station(plant, supplier)
+    if supplier == 0 or plant[supplier - 1] != station:
+        raise NoStation("this is not a supplier of the station")
+
+
+def check_maker(plant, maker):
+    """Raises NoStation unless the value is a maker of the plant."""
+    check_station(plant, maker)
+    if maker in plant:
+        raise NoStation("this station has suppliers")
 
 
 def check_stock(plant, stock):

@@ -21,29 +21,43 @@ def suppliers(plant, station):
     """Returns the suppliers of a station as an ascending list."""
     check_plant(plant)
     check_station(plant, station)
-    return supplier_lists(plant)[station]
+    # No supplier has a smaller number than its customer, so the search begins behind it.
+    return [at for at, above in enumerate(plant[station:], station + 1) if above == station]
 
 
 def makers(plant):
     """Returns all makers as an ascending list."""
     check_plant(plant)
-    return [station for station, givers in enumerate(supplier_lists(plant)) if not givers]
+    customers = set(plant)
+    return [station for station in range(len(plant) + 1) if station not in customers]
 
 
 def size(plant, station):
     """Returns the number of the stations at and below a station."""
     check_plant(plant)
     check_station(plant, station)
-    return all_sizes(plant)[station]
+    # A customer has a smaller number than its suppliers: whether it is counted
+    # is told before theirs is.
+    counted = [False] * station + [True]
+    for above in plant[station:]:
+        counted.append(counted[above])
+    return counted.count(True)
 
 
 def path_to_shop(plant, station):
     """Returns the stations from a station to station 0, both included."""
     check_plant(plant)
     check_station(plant, station)
-    path = [station]
-    while path[-1] != 0:
-        path.append(plant[path[-1] - 1])
+    return path_up(plant, station)
+
+
+def path_up(plant, station):
+    """Returns the stations from a station of a checked plant to station 0."""
+    customers = (None,) + plant
+    path = []
+    while station is not None:
+        path.append(station)
+        station = customers[station]
     return path
 
 

@@ -1,5 +1,6 @@
 """A plain model of plants and days, written without the package, and sample values."""
 
+import functools
 import itertools
 import random
 
@@ -34,8 +35,14 @@ def customer_of(plant, station):
     return dict(enumerate(plant, start=1)).get(station)
 
 
+@functools.lru_cache(maxsize=None)
+def supplier_table(plant):
+    return tuple(tuple(other for other in stations(plant) if customer_of(plant, other) == station)
+                 for station in stations(plant))
+
+
 def suppliers_of(plant, station):
-    return [other for other in stations(plant) if customer_of(plant, other) == station]
+    return list(supplier_table(plant)[station])
 
 
 def stations_below(plant, station):
@@ -75,6 +82,40 @@ def simulate(plant, stock, days):
     return rows, stock
 
 
+def simulated_stocks(plant, stock, days):
+    """The stocks after 0 to so many days."""
+    stocks = [stock]
+    for _ in range(days):
+        stocks.append(simulate_day(plant, stocks[-1])[2])
+    return stocks
+
+
+def disorders_of(plant, stock):
+    """All disorders (upper, lower), by their definition."""
+    return [(upper, lower) for upper in stations(plant) for lower in stations_below(plant, upper)
+            if stock[lower] < stock[upper]]
+
+
+def ordered_by_definition(plant, stock):
+    return not disorders_of(plant, stock)
+
+
+def word_by_definition(plant, stock, station):
+    """The word of a station, box by box."""
+    holder = {stock[other]: other for other in stations_below(plant, station)}
+    return [supplier for box in sorted(holder) for supplier in suppliers_of(plant, station)
+            if holder[box] in [supplier] + stations_below(plant, supplier)]
+
+
+def words_by_definition(plant, stock):
+    return [word_by_definition(plant, stock, station) for station in stations(plant)]
+
+
+def letters_by_definition(plant, station):
+    return [supplier for supplier in suppliers_of(plant, station)
+            for _ in [supplier] + stations_below(plant, supplier)]
+
+
 def chain_plant(count):
     return tuple(range(count - 1))
 
@@ -100,6 +141,31 @@ def any_stock(plant, seed):
     return tuple(boxes)
 
 
+def ordered_stock(plant, seed):
+    """An ordered stock of such numbers: one after the other of the stations that have none gets one."""
+    source = random.Random(seed)
+    placed = {}
+    free = [0]
+    for box in sorted(any_stock(plant, seed)):
+        station = free.pop(source.randrange(len(free)))
+        placed[station] = box
+        free += suppliers_of(plant, station)
+    return tuple(placed[station] for station in stations(plant))
+
+
+def any_words(plant, seed):
+    source = random.Random(seed)
+    words = [letters_by_definition(plant, station) for station in stations(plant)]
+    for letters in words:
+        source.shuffle(letters)
+    return words
+
+
+def all_words(plant):
+    rows = [sorted(set(itertools.permutations(letters_by_definition(plant, station)))) for station in stations(plant)]
+    return [[list(letters) for letters in chosen] for chosen in itertools.product(*rows)]
+
+
 def all_plants(count):
     return list(itertools.product(*[range(index + 1) for index in range(count - 1)]))
 
@@ -108,10 +174,10 @@ def all_patterns(plant):
     return list(itertools.permutations(range(len(plant) + 1)))
 
 
-def sample_plants():
+def sample_plants(others=3):
     """Chains, stars and other trees of 1 to 40 stations."""
     plants = []
     for count in range(1, 41):
         plants += [chain_plant(count), star_plant(count)]
-        plants += [any_plant(count, 100 * count + turn) for turn in range(3)]
+        plants += [any_plant(count, 100 * count + turn) for turn in range(others)]
     return plants

@@ -1,13 +1,24 @@
 import inspect
 import unittest
 
-from pulltree import errors, plants, stocks
+from pulltree import emptyings, errors, far, ordering, plants, stocks, words
 
 FUNCTIONS = {
     plants: {"is_plant": ["value"], "customer": ["plant", "station"], "suppliers": ["plant", "station"],
              "makers": ["plant"], "size": ["plant", "station"], "path_to_shop": ["plant", "station"]},
     stocks: {"is_stock": ["plant", "value"], "pattern": ["plant", "stock"], "after_day": ["plant", "stock"],
              "run": ["plant", "stock", "days"], "record": ["plant", "stock", "days"]},
+    ordering: {"is_ordered": ["plant", "stock"], "disorder": ["plant", "stock"],
+               "is_disorder": ["plant", "stock", "value"], "days_until_ordered": ["plant", "stock"],
+               "first_ordered": ["plant", "stock"]},
+    words: {"word": ["plant", "stock", "station"], "words_of": ["plant", "stock"], "is_words": ["plant", "value"],
+            "pattern_of_words": ["plant", "words"], "words_after": ["plant", "words", "days"]},
+    emptyings: {"emptied": ["plant", "stock", "station", "days"],
+                "nth_emptying": ["plant", "stock", "station", "number"], "share": ["plant", "station"],
+                "emptied_within": ["plant", "stock", "station", "supplier", "many"]},
+    far: {"stock_after": ["plant", "stock", "days"], "chain_on": ["plant", "stock", "day"],
+          "maker_on": ["plant", "stock", "day"], "box_at": ["plant", "stock", "station", "days"],
+          "nth_made": ["plant", "stock", "maker", "number"]},
 }
 
 

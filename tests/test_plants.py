@@ -3,6 +3,7 @@ import unittest
 
 from pulltree.errors import NoPlant, NoStation
 from pulltree.plants import customer, is_plant, makers, path_to_shop, size, suppliers
+from refusals import RefusalCase
 from simulation import (all_plants, any_plant, chain_plant, customer_of, plant_by_definition, sample_plants, star_plant,
                         stations, stations_below, suppliers_of, walk_to_shop)
 from values import NOT_PLANTS, NOT_STATIONS, PLANT, WIDE
@@ -57,6 +58,26 @@ class IsPlantTest(unittest.TestCase):
     def check(self, value):
         self.assertIs(is_plant(value), plant_by_definition(value), value)
 
+    def test_one_item_replaced_in_plants_of_all_sizes(self):
+        for plant in sample_plants():
+            for at in range(len(plant)):
+                for other in [0, 1, at - 1, at, at + 1, -1, 40, 10 ** 36, -10 ** 36, True, False, None, "0", (), [0]]:
+                    value = plant[:at] + (other,) + plant[at + 1:]
+                    self.assertIs(is_plant(value), plant_by_definition(value), value)
+
+    def test_items_of_other_classes(self):
+        class Zero:
+            def __eq__(self, other):
+                return True
+
+            def __lt__(self, other):
+                return False
+
+            __gt__ = __lt__
+
+        for value in [(Zero(),), (0, Zero()), (Zero(), 0), (Zero,), (0, is_plant)]:
+            self.assertIs(is_plant(value), False)
+
     def test_other_values(self):
         nested = ()
         for _ in range(40):
@@ -92,6 +113,10 @@ class TreeTest(unittest.TestCase):
         for plant in sample_plants():
             self.check_plant(plant)
 
+    def test_forty_stations(self):
+        for plant in [chain_plant(40), star_plant(40)] + [any_plant(40, seed) for seed in range(40)]:
+            self.check_plant(plant)
+
     def test_kinds_of_results(self):
         for at in [0, 2, 3]:
             self.assertIs(type(suppliers(PLANT, at)), list)
@@ -113,38 +138,30 @@ class TreeTest(unittest.TestCase):
         self.assertEqual([suppliers(PLANT, 0), makers(PLANT), size(PLANT, 2), path_to_shop(PLANT, 3)], before)
 
 
-class ErrorsTest(unittest.TestCase):
-    def check_error(self, error, function, *arguments):
-        shown = repr(arguments)
-        with self.subTest(function=function.__name__, arguments=shown):
-            with self.assertRaises(ValueError) as caught:
-                function(*arguments)
-            self.assertIs(type(caught.exception), error)
-            self.assertEqual(repr(arguments), shown)
-
+class ErrorsTest(RefusalCase):
     def test_no_plant(self):
         for value in NOT_PLANTS:
-            self.check_error(NoPlant, makers, value)
+            self.check_refused(NoPlant, makers, (value,))
             for function in OF_STATION:
-                self.check_error(NoPlant, function, value, 0)
+                self.check_refused(NoPlant, function, (value, 0))
 
     def test_no_station(self):
         for value in NOT_STATIONS:
             for function in OF_STATION:
-                self.check_error(NoStation, function, PLANT, value)
+                self.check_refused(NoStation, function, (PLANT, value))
 
     def test_no_plant_comes_first(self):
         for value in NOT_PLANTS:
             for station in NOT_STATIONS:
                 for function in OF_STATION:
-                    self.check_error(NoPlant, function, value, station)
+                    self.check_refused(NoPlant, function, (value, station))
 
     def test_first_number_that_is_no_station(self):
         for plant in sample_plants():
             for function in OF_STATION:
                 function(plant, len(plant))
-                self.check_error(NoStation, function, plant, len(plant) + 1)
-                self.check_error(NoStation, function, plant, -1)
+                self.check_refused(NoStation, function, (plant, len(plant) + 1))
+                self.check_refused(NoStation, function, (plant, -1))
 
 
 if __name__ == "__main__":

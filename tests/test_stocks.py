@@ -3,6 +3,7 @@ import unittest
 
 from pulltree.errors import NoDays, NoPlant, NoStock
 from pulltree.stocks import after_day, is_stock, pattern, record, run
+from refusals import RefusalCase
 from simulation import (all_patterns, all_plants, any_plant, any_stock, sample_plants, simulate, simulate_day,
                         stock_by_definition)
 from values import NOT_DAYS, NOT_PLANTS, NOT_STOCKS, ORDERED, PLANT, STOCK, WIDE
@@ -176,53 +177,43 @@ class KindsTest(unittest.TestCase):
             self.assertEqual(after, before)
 
 
-class ErrorsTest(unittest.TestCase):
-    def check_error(self, error, function, *arguments):
-        shown = repr(arguments)
-        try:
-            function(*arguments)
-        except ValueError as raised:
-            self.assertIs(type(raised), error, (function.__name__, arguments))
-        else:
-            self.fail(f"{function.__name__}{arguments} raised nothing")
-        self.assertEqual(repr(arguments), shown)
-
+class ErrorsTest(RefusalCase):
     def test_no_plant(self):
         for value in NOT_PLANTS:
             for stock in [STOCK, (1,), None, []]:
-                self.check_error(NoPlant, is_stock, value, stock)
+                self.check_refused(NoPlant, is_stock, (value, stock))
             for stock in [STOCK, (1,)] + NOT_STOCKS:
                 for function in OF_STOCK:
-                    self.check_error(NoPlant, function, value, stock)
+                    self.check_refused(NoPlant, function, (value, stock))
                 for days in [0, 1, 2001, True, None]:
                     for function in OF_DAYS:
-                        self.check_error(NoPlant, function, value, stock, days)
+                        self.check_refused(NoPlant, function, (value, stock, days))
 
     def test_no_stock(self):
         for value in NOT_STOCKS:
             for function in OF_STOCK:
-                self.check_error(NoStock, function, PLANT, value)
+                self.check_refused(NoStock, function, (PLANT, value))
             for days in [0, 1] + NOT_DAYS:
                 for function in OF_DAYS:
-                    self.check_error(NoStock, function, PLANT, value, days)
+                    self.check_refused(NoStock, function, (PLANT, value, days))
 
     def test_no_days(self):
         for value in NOT_DAYS:
             for function in OF_DAYS:
-                self.check_error(NoDays, function, PLANT, STOCK, value)
+                self.check_refused(NoDays, function, (PLANT, STOCK, value))
 
     def test_least_and_greatest_number_of_days(self):
         for function in OF_DAYS:
             for days in [0, 2000]:
                 function(PLANT, STOCK, days)
             for days in [-1, 2001]:
-                self.check_error(NoDays, function, PLANT, STOCK, days)
+                self.check_refused(NoDays, function, (PLANT, STOCK, days))
 
     def test_stock_of_another_plant(self):
         for function in OF_STOCK:
-            self.check_error(NoStock, function, WIDE, STOCK)
-            self.check_error(NoStock, function, (), ())
-            self.check_error(NoStock, function, (), STOCK)
+            self.check_refused(NoStock, function, (WIDE, STOCK))
+            self.check_refused(NoStock, function, ((), ()))
+            self.check_refused(NoStock, function, ((), STOCK))
 
 
 if __name__ == "__main__":
