@@ -1,6 +1,6 @@
 """Checks of arguments, shared by the modules of the package."""
 
-from pulltree.errors import NoDays, NoPlant, NoStation, NoStock
+from pulltree.errors import NoDays, NoPattern, NoPlant, NoStation, NoStock, TooMany
 
 MOST_STATIONS = 40
 
@@ -46,6 +46,11 @@ def fits_stock(plant, value):
     return len(set(value)) == len(value)
 
 
+def fits_pattern(plant, value):
+    """Tells whether a value is a pattern of a plant that is already checked."""
+    return fits_stock(plant, value) and sorted(value) == list(range(len(value)))
+
+
 def check_plant(plant):
     """Raises NoPlant unless the value is a plant."""
     if not fits_plant(plant):
@@ -76,6 +81,18 @@ def check_stock(plant, stock):
     """Raises NoStock unless the value is a stock of the plant."""
     if not fits_stock(plant, stock):
         raise NoStock("this is not a stock of the plant")
+
+
+def check_pattern(plant, ranks):
+    """Raises NoPattern unless the value is a pattern of the plant."""
+    if not fits_pattern(plant, ranks):
+        raise NoPattern("this is not a pattern of the plant")
+
+
+def check_few_stations(plant, most):
+    """Raises TooMany if the checked plant has more stations than this."""
+    if len(plant) >= most:
+        raise TooMany(len(plant) + 1)
 
 
 def check_days(days, least, most):

@@ -16,8 +16,7 @@ def pattern(plant, stock):
     """Returns the ranks of the boxes, from 0 for the oldest one."""
     check_plant(plant)
     check_stock(plant, stock)
-    ranks = {box: rank for rank, box in enumerate(sorted(stock))}
-    return tuple([ranks[box] for box in stock])
+    return ranks_of(stock)
 
 
 def after_day(plant, stock):
@@ -53,6 +52,12 @@ def first_days(plant, stock, days):
         sold, chain = pass_day(givers, boxes)
         rows.append((sold, tuple(chain)))
     return rows, tuple(boxes)
+
+
+def ranks_of(stock):
+    """Returns the pattern of a checked stock."""
+    ranks = {box: rank for rank, box in enumerate(sorted(stock))}
+    return tuple([ranks[box] for box in stock])
 
 
 def pass_day(givers, boxes):

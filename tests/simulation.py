@@ -90,6 +90,21 @@ def simulated_stocks(plant, stock, days):
     return stocks
 
 
+def ranks_by_definition(stock):
+    return tuple(sorted(stock).index(box) for box in stock)
+
+
+def stays_in(stocks):
+    """For each box the stations at which it stays, with the days on which it comes there."""
+    stays = {}
+    for day, stock in enumerate(stocks):
+        for station, box in enumerate(stock):
+            rows = stays.setdefault(box, [])
+            if not rows or rows[-1][0] != station:
+                rows.append((station, day))
+    return stays
+
+
 def disorders_of(plant, stock):
     """All disorders (upper, lower), by their definition."""
     return [(upper, lower) for upper in stations(plant) for lower in stations_below(plant, upper)
@@ -98,6 +113,26 @@ def disorders_of(plant, stock):
 
 def ordered_by_definition(plant, stock):
     return not disorders_of(plant, stock)
+
+
+def ordered_patterns_by_definition(plant):
+    return [ranks for ranks in all_patterns(plant) if ordered_by_definition(plant, ranks)]
+
+
+def first_ordered_by_definition(plant, stock):
+    while not ordered_by_definition(plant, stock):
+        stock = simulate_day(plant, stock)[2]
+    return stock
+
+
+def cycle_by_definition(plant, stock):
+    """The patterns from that of the first ordered stock on until it comes again."""
+    stock = first_ordered_by_definition(plant, stock)
+    patterns = []
+    while ranks_by_definition(stock) not in patterns[:1]:
+        patterns.append(ranks_by_definition(stock))
+        stock = simulate_day(plant, stock)[2]
+    return patterns
 
 
 def word_by_definition(plant, stock, station):

@@ -1,7 +1,7 @@
 import inspect
 import unittest
 
-from pulltree import emptyings, errors, far, ordering, plants, stocks, words
+from pulltree import backwards, counting, cycles, emptyings, errors, far, ordering, plants, sales, stocks, words
 
 FUNCTIONS = {
     plants: {"is_plant": ["value"], "customer": ["plant", "station"], "suppliers": ["plant", "station"],
@@ -19,6 +19,15 @@ FUNCTIONS = {
     far: {"stock_after": ["plant", "stock", "days"], "chain_on": ["plant", "stock", "day"],
           "maker_on": ["plant", "stock", "day"], "box_at": ["plant", "stock", "station", "days"],
           "nth_made": ["plant", "stock", "maker", "number"]},
+    sales: {"first_sales": ["plant", "stock"], "sold_on": ["plant", "stock", "day"],
+            "day_sold": ["plant", "stock", "box"], "travel": ["plant", "stock", "box"]},
+    cycles: {"word_period": ["plant", "stock", "station"], "cycle_length": ["plant", "stock"],
+             "cycle_of": ["plant", "stock"], "days_between": ["plant", "stock", "other"]},
+    counting: {"count_ordered": ["plant"], "nth_ordered": ["plant", "number"], "ordered_number": ["plant", "stock"],
+               "longest_cycle": ["plant"]},
+    backwards: {"has_day_before": ["plant", "pattern"], "patterns_before": ["plant", "pattern"],
+                "ordered_before": ["plant", "pattern", "days"], "count_before": ["plant", "pattern", "days"],
+                "stocks_with_sales": ["plant", "boxes"]},
 }
 
 

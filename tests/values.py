@@ -31,6 +31,12 @@ NOT_FAR_DAYS = NOT_FAR_NUMBERS + [0]
 # Stocks of PLANT: 2 and 3 in disorder, 0 and 1, 0 and 2, 0 and 3 alone.
 NOT_ORDERED = [STOCK, (0, 1, 3, 2), (1, 0, 2, 3), (2, 3, 1, 4), (3, 4, 1, 2), (10 ** 36, -10 ** 36, 10 ** 36 + 1, 0)]
 
+# For PLANT: stocks that are no patterns, and what is no stock either.
+NOT_PATTERNS = NOT_STOCKS + [
+    STOCK, ORDERED, (1, 2, 3, 4), (0, 1, 2, 4), (0, 1, 3, 4), (-1, 0, 1, 2), (0, 1, 2, 10 ** 36), (0, 1, 2, -3),
+    (0, 1, 2, 2), (False, 1, 2, 3), (0, True, 2, 3), [0, 1, 2, 3], (0, 1, 2), (0, 1, 2, 3, 4), (3, 2, 1),
+    ((0,), 1, 2, 3), (0, 1, 2, "3"), (0, 1, None, 3), "0123", {0: 1, 1: 2, 2: 3, 3: 0}]
+
 WORDS = [[1, 2, 2], [], [3], []]
 
 # For PLANT.
