@@ -17,6 +17,13 @@ def is_within(value, least, most):
     return is_integer(value) and least <= value <= most
 
 
+def is_decimal(text, most):
+    """Tells whether a string is a number of 1 to so many digits without leading zeros."""
+    if not text.isascii() or not text.isdigit() or len(text) > most:
+        return False
+    return text == "0" or not text.startswith("0")
+
+
 def fits_plant(value):
     """Tells whether a value is a plant."""
     if not isinstance(value, tuple) or len(value) >= MOST_STATIONS:

@@ -69,6 +69,5 @@ def sales_of_first(plant, stock):
     while waiting:
         station = oldest_giver(waiting, stock)
         sales.append(stock[station])
-        waiting.remove(station)
-        waiting += givers[station]
+        waiting = [other for other in waiting if other != station] + givers[station]
     return sales

@@ -60,12 +60,12 @@ def ranks_of(stock):
     return tuple([ranks[box] for box in stock])
 
 
-def pass_day(givers, boxes):
-    """Changes the list of boxes by one day; returns the sold box and the chain."""
+def pass_day(givers, boxes, first=0):
+    """Changes the list of boxes by one day; returns the box sold at the first station, and the chain."""
     # The box that is sold counts, too: the greatest number is that before the day.
     fresh = max(boxes) + 1
-    sold = boxes[0]
-    empty = 0
+    sold = boxes[first]
+    empty = first
     chain = [empty]
     while givers[empty]:
         giver = oldest_giver(givers[empty], boxes)

@@ -58,12 +58,12 @@ def walk_to_shop(plant, station):
     return [station] + walk_to_shop(plant, customer_of(plant, station))
 
 
-def simulate_day(plant, stock):
-    """Pulls the boxes up one by one: (sold, chain, later)."""
+def simulate_day(plant, stock, first=0):
+    """Pulls the boxes up one by one, from the first station of the chain on: (sold, chain, later)."""
     held = dict(zip(stations(plant), stock))
     newest = sorted(stock)[-1]
-    chain = [0]
-    sold = held.pop(0)
+    chain = [first]
+    sold = held.pop(first)
     while suppliers_of(plant, chain[-1]):
         offers = {held[other]: other for other in suppliers_of(plant, chain[-1])}
         box = sorted(offers)[0]
@@ -88,6 +88,26 @@ def simulated_stocks(plant, stock, days):
     for _ in range(days):
         stocks.append(simulate_day(plant, stocks[-1])[2])
     return stocks
+
+
+def simulate_turns(plant, stock, days):
+    """The same rows under the rule in turn, with a marker at each station, and all stocks from the first one on."""
+    markers = {station: 0 for station in stations(plant)}
+    rows = []
+    stocks = [stock]
+    for _ in range(days):
+        boxes = list(stocks[-1])
+        chain = [0]
+        while suppliers_of(plant, chain[-1]):
+            station = chain[-1]
+            giver = suppliers_of(plant, station)[markers[station]]
+            markers[station] = (markers[station] + 1) % len(suppliers_of(plant, station))
+            boxes[station] = boxes[giver]
+            chain.append(giver)
+        boxes[chain[-1]] = max(stocks[-1]) + 1
+        rows.append((stocks[-1][0], tuple(chain)))
+        stocks.append(tuple(boxes))
+    return rows, stocks
 
 
 def ranks_by_definition(stock):

@@ -1,7 +1,8 @@
 import inspect
 import unittest
 
-from pulltree import backwards, counting, cycles, emptyings, errors, far, ordering, plants, sales, stocks, words
+from pulltree import (backwards, console, counting, cycles, emptyings, errors, far, live, ordering, plants, sales,
+                      stocks, texts, turns, words)
 
 FUNCTIONS = {
     plants: {"is_plant": ["value"], "customer": ["plant", "station"], "suppliers": ["plant", "station"],
@@ -28,6 +29,19 @@ FUNCTIONS = {
     backwards: {"has_day_before": ["plant", "pattern"], "patterns_before": ["plant", "pattern"],
                 "ordered_before": ["plant", "pattern", "days"], "count_before": ["plant", "pattern", "days"],
                 "stocks_with_sales": ["plant", "boxes"]},
+    turns: {"turn_days": ["plant", "station"], "turn_time": ["plant", "maker"], "turn_chain": ["plant", "day"],
+            "turn_stock_after": ["plant", "stock", "days"], "turn_sold_on": ["plant", "stock", "day"],
+            "mean_time": ["plant"]},
+    texts: {"show_plant": ["plant", "stock"], "read_plant": ["text"]},
+}
+
+
+METHODS = {
+    live.LivePlant: {"__init__": ["self", "plant", "stock"], "day": ["self"], "days": ["self", "days"],
+                     "sell": ["self", "station"], "add": ["self", "station"], "remove": ["self"], "undo": ["self"],
+                     "plant": ["self"], "stock": ["self"], "log": ["self"], "__len__": ["self"],
+                     "__eq__": ["self", "other"]},
+    console.Console: {"__init__": ["self"], "say": ["self", "row"]},
 }
 
 
@@ -43,6 +57,18 @@ class InterfaceTest(unittest.TestCase):
                     for parameter in inspect.signature(function).parameters.values():
                         self.assertEqual(parameter.kind, parameter.POSITIONAL_OR_KEYWORD)
                         self.assertIs(parameter.default, parameter.empty)
+
+    def test_classes_stand_in_their_files_with_their_methods(self):
+        self.assertEqual(live.LivePlant.__module__, "pulltree.live")
+        self.assertEqual(console.Console.__module__, "pulltree.console")
+        for owner, methods in METHODS.items():
+            for name, arguments in methods.items():
+                with self.subTest(name):
+                    self.assertEqual(list(inspect.signature(vars(owner)[name]).parameters), arguments)
+
+    def test_the_stock_of_a_live_plant_is_passed_by_keyword(self):
+        stock = inspect.signature(live.LivePlant).parameters["stock"]
+        self.assertEqual([stock.kind, stock.default], [stock.KEYWORD_ONLY, None])
 
     def test_errors_stand_in_their_file(self):
         for name, value in vars(errors).items():

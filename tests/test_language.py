@@ -157,6 +157,47 @@ class SyntaxTest(unittest.TestCase):
                     self.assertIsInstance(node.comparators[-1], ast.Constant, (name, node.lineno))
 
 
+class ClassesTest(unittest.TestCase):
+    """What holds beside classes with attributes, __eq__ and __len__."""
+
+    def methods_and_attributes(self):
+        methods, attributes = set(), set()
+        for tree in modules().values():
+            for node in ast.walk(tree):
+                if isinstance(node, ast.ClassDef):
+                    methods |= {child.name for child in node.body if isinstance(child, ast.FunctionDef)}
+                if isinstance(node, ast.Attribute) and not isinstance(node.ctx, ast.Load):
+                    self.assertIsInstance(node.value, ast.Name)
+                    attributes.add(node.attr)
+        return methods, attributes
+
+    def test_no_name_is_a_method_and_an_attribute(self):
+        methods, attributes = self.methods_and_attributes()
+        self.assertEqual(methods & attributes, set())
+        self.assertEqual(attributes & BUILTIN_METHODS, set())
+
+    def test_attributes_that_are_read_are_assigned(self):
+        methods, attributes = self.methods_and_attributes()
+        for name, tree in modules().items():
+            for node in ast.walk(tree):
+                if isinstance(node, ast.Attribute):
+                    self.assertIn(node.attr, methods | attributes | BUILTIN_METHODS, (name, node.lineno))
+
+    def test_builtins_take_lists_and_nothing_is_sorted_in_place(self):
+        for name, tree in modules().items():
+            for node in ast.walk(tree):
+                self.assertNotIsInstance(node, (ast.GeneratorExp, ast.Yield, ast.YieldFrom), name)
+                if isinstance(node, ast.Attribute):
+                    self.assertNotEqual(node.attr, "sort", (name, node.lineno))
+
+    def test_own_methods_that_change_are_not_those_of_lists_or_sets(self):
+        # A call like rows.remove(x) would look like the own method.
+        for name, tree in modules().items():
+            for node in ast.walk(tree):
+                if isinstance(node, ast.Call) and isinstance(node.func, ast.Attribute) and node.func.attr == "remove":
+                    self.assertEqual(node.args, [], (name, node.lineno))
+
+
 class ImportsTest(unittest.TestCase):
     def test_imports_name_the_file_that_defines_the_name(self):
         trees = modules()
