@@ -105,4 +105,4 @@ def ordered_patterns(plant):
         orders = [order[:at] + [supplier] + order[at:]
                   for order in orders for at in range(order.index(station) + 1, supplier + 1)]
     # The rank of a station is its place in the order.
-    return [tuple([order.index(station) for station in range(len(order))]) for order in orders]
+    return [tuple([order.index(holder) for holder in range(len(order))]) for order in orders]
